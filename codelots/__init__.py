@@ -1,0 +1,1 @@
+"""Codelots: all codes of a text, numbered."""
