@@ -27,6 +27,13 @@ def ends(row):
     return ()
 
 
+def row_values(row):
+    """All that stands for a value in a row: what it makes, if it does, and its ends."""
+    if row[0] in ("write", "out"):
+        return ends(row)
+    return (row[1],) + ends(row)
+
+
 def cell(row):
     """The cell that a row touches, or None."""
     if row[0] == "read":

@@ -1,10 +1,15 @@
-"""What is a name, and what is a text, asked of anything."""
+"""What is a name, and what is a text, asked of anything.
+
+The shape that texts and codes share is here, too: blocks, rows and finishes,
+whatever stands in them for the values, names or registers.
+"""
 
 from codelots.finishes import finish_values, ways
-from codelots.rows import ends, made, worth
+from codelots.rows import cell, ends, made, row_values, worth
 
 LONGEST_NAME = 8
-MOST_NUMBER = 1000002
+# Numbers are whole ones from 0 below this.
+NUMBERS = 1000003
 MOST_BLOCKS = 6
 MOST_ROWS = 14
 MOST_VALUES = 6
@@ -22,60 +27,63 @@ def is_name(thing):
 
 def is_text(thing):
     """Whether a thing is a text: blocks of unlike names, with finishes that fit them."""
+    return has_shape(thing) and all([has_names(block) for block in thing])
+
+
+def is_below(thing, bound):
+    """Whether a thing is a whole number from 0 below a bound."""
+    if not isinstance(thing, int) or isinstance(thing, bool):
+        return False
+    return 0 <= thing < bound
+
+
+def has_shape(thing):
+    """Whether a thing has the shape of a text or code, whatever stands for its values."""
     if not isinstance(thing, tuple) or not 1 <= len(thing) <= MOST_BLOCKS:
         return False
     takes = {}
     for block in thing:
-        if not is_block(block) or block[0] in takes:
+        if not has_block_shape(block) or block[0] in takes:
             return False
         takes[block[0]] = len(block[1])
     return all([ways_fit(block[3], takes) for block in thing])
 
 
-def is_block(thing):
-    """Whether a thing is a block, whatever blocks its finish names."""
+def has_block_shape(thing):
+    """Whether a thing has the shape of a block, whatever blocks its finish names."""
     if not isinstance(thing, tuple) or len(thing) != 4:
         return False
     name, takes, rows, finish = thing
-    if not is_name(name) or not are_names(takes) or len(set(takes)) < len(takes):
+    if not is_name(name) or not are_few(takes) or not has_finish_shape(finish):
         return False
-    if not are_rows(rows) or not is_finish(finish):
+    if not isinstance(rows, tuple) or len(rows) > MOST_ROWS:
         return False
-    return values_fit(takes, rows, finish) and not has_twins(takes, rows)
+    return all([has_row_shape(row) for row in rows])
 
 
-def are_names(thing):
-    """Whether a thing is a tuple of at most six names, some perhaps twice."""
-    if not isinstance(thing, tuple) or len(thing) > MOST_VALUES:
-        return False
-    return all([is_name(name) for name in thing])
+def are_few(thing):
+    """Whether a thing is a tuple of at most six, of whatever."""
+    return isinstance(thing, tuple) and len(thing) <= MOST_VALUES
 
 
-def are_rows(thing):
-    """Whether a thing is a tuple of at most fourteen rows, whatever ends they have."""
-    if not isinstance(thing, tuple) or len(thing) > MOST_ROWS:
-        return False
-    return all([is_row(row) for row in thing])
-
-
-def is_row(thing):
-    """Whether a thing is a row, whatever ends it has."""
+def has_row_shape(thing):
+    """Whether a thing has the shape of a row."""
     if not begins_with_word(thing) or ROW_SIZES.get(thing[0]) != len(thing):
         return False
     if thing[0] == "num":
-        return is_name(thing[1]) and is_number(thing[2])
-    return all([is_name(part) for part in thing[1:]])
+        return is_below(thing[2], NUMBERS)
+    if thing[0] in ("read", "write"):
+        return is_name(cell(thing))
+    return True
 
 
-def is_finish(thing):
-    """Whether a thing is a finish, whatever values and blocks it names."""
+def has_finish_shape(thing):
+    """Whether a thing has the shape of a finish."""
     if not begins_with_word(thing) or FINISH_SIZES.get(thing[0]) != len(thing):
         return False
     if thing[0] == "stop":
-        return are_names(thing[1])
-    if thing[0] == "when" and not is_name(thing[1]):
-        return False
-    return all([is_name(name) and are_names(args) for name, args in ways(thing)])
+        return are_few(thing[1])
+    return all([is_name(name) and are_few(args) for name, args in ways(thing)])
 
 
 def begins_with_word(thing):
@@ -84,11 +92,27 @@ def begins_with_word(thing):
     return isinstance(thing, tuple) and len(thing) > 0 and isinstance(thing[0], str)
 
 
-def is_number(thing):
-    """Whether a thing is a whole number that a row may have."""
-    if not isinstance(thing, int) or isinstance(thing, bool):
+def ways_fit(finish, takes):
+    """Whether a finish names only blocks in takes, with as many values as they have takes."""
+    return all([takes.get(name) == len(args) for name, args in ways(finish)])
+
+
+def block_values(block):
+    """All that stands for a value in what has the shape of a block, a list."""
+    found = list(block[1])
+    for row in block[2]:
+        found.extend(row_values(row))
+    return found + list(finish_values(block[3]))
+
+
+def has_names(block):
+    """Whether the values of what has the shape of a block are such as a text has."""
+    if not all([is_name(value) for value in block_values(block)]):
         return False
-    return 0 <= thing <= MOST_NUMBER
+    takes = block[1]
+    if len(set(takes)) < len(takes):
+        return False
+    return values_fit(takes, block[2], block[3]) and not has_twins(takes, block[2])
 
 
 def values_fit(takes, rows, finish):
@@ -114,8 +138,3 @@ def has_twins(takes, rows):
             values[made(row)] = made(row)
     found = [worth(rows, at, values) for at in range(len(rows)) if made(rows[at]) is not None]
     return len(set(found)) < len(found)
-
-
-def ways_fit(finish, takes):
-    """Whether a finish names only blocks in takes, with as many values as they have takes."""
-    return all([takes.get(name) == len(args) for name, args in ways(finish)])

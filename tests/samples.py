@@ -1,4 +1,4 @@
-"""Texts for the tests, and texts that are one with them, made without the program's own parts."""
+"""Texts for the tests, texts that are one with them and codes of them, made without the program's own parts."""
 
 WORDS = ("num", "add", "less", "times", "min", "read", "write", "out")
 EVEN = ("add", "times", "min")
@@ -20,9 +20,34 @@ FULL = (
     ("end", ("v",), (), ("stop", ("v",))),
 )
 
+# One of FULL for four registers: they are put again and again, 1 by a row whose end it is.
+CODE = (
+    ("main", (3, 0), (
+        ("add", 1, 0, 3),
+        ("less", 3, 0, 3),
+        ("times", 1, 1, 3),
+        ("num", 0, 7),
+        ("min", 0, 0, 1),
+        ("read", 2, "c"),
+        ("write", "c", 0),
+        ("out", 2),
+        ("read", 3, "c"),
+        ("out", 3),
+    ), ("when", 0, "main", (3, 3), "end", (2,))),
+    ("end", (1,), (), ("stop", (1,))),
+)
+
 
 def one_block(rows, takes=("x", "y"), finish=("stop", ())):
     return (("b", tuple(takes), tuple(rows), finish),)
+
+
+def code_block(rows=(), places=(0, 1), finish=("stop", ()), name="b"):
+    return (name, tuple(places), tuple(rows), finish)
+
+
+def code(rows=(), places=(0, 1), finish=("stop", ())):
+    return (code_block(rows, places, finish),)
 
 
 def number_of_values(count):
@@ -154,3 +179,59 @@ def led_finish(finish, names):
     return (
         "when", names[finish[1]], finish[2], led_args(finish[3], names), finish[4], led_args(finish[5], names),
     )
+
+
+def finish_values_of(finish):
+    if finish[0] == "when":
+        return (finish[1],) + finish[3] + finish[5]
+    return finish[-1]
+
+
+def living_in(block, done):
+    """The names of the values that live behind a set of rows, by the document's words."""
+    _, takes, rows, finish = block
+    found = set()
+    for value in takes + tuple(rows[at][1] for at in done if rows[at][0] not in ("write", "out")):
+        if value in finish_values_of(finish):
+            found.add(value)
+        if any(value in ends_of(row) for at, row in enumerate(rows) if at not in done):
+            found.add(value)
+    return found
+
+
+def free_registers(block, done, holds, k):
+    """The registers in which nothing lies that lives behind the set, of which the last row is just done."""
+    lives = living_in(block, done) - {block[2][done[-1]][1]}
+    return [place for place in range(k) if holds.get(place) not in lives]
+
+
+def random_code(chance, text, k):
+    """A code of the text for k registers; None where chance found none."""
+    blocks = []
+    for block in text:
+        tries = (random_code_block(chance, block, k) for _ in range(20))
+        blocks.append(next((found for found in tries if found is not None), None))
+    return None if None in blocks else tuple(blocks)
+
+
+def random_code_block(chance, block, k):
+    name, takes, rows, finish = block
+    if len(takes) > k:
+        return None
+    registers = tuple(chance.sample(range(k), len(takes)))
+    place = dict(zip(takes, registers))
+    holds = dict(zip(registers, takes))
+    on = hung(rows)
+    done = []
+    told = []
+    while len(done) < len(rows):
+        done.append(chance.choice([at for at in range(len(rows)) if at not in done and on[at] <= set(done)]))
+        row = rows[done[-1]]
+        if row[0] not in ("write", "out"):
+            free = free_registers(block, done, holds, k)
+            if not free:
+                return None
+            place[row[1]] = chance.choice(free)
+            holds[place[row[1]]] = row[1]
+        told.append(led_row(chance, row, place))
+    return (name, registers, tuple(told), led_finish(finish, place))

@@ -26,7 +26,16 @@ METHODS = set("""
 INTERFACE = {
     "texts.py": {"is_name": ["thing"], "is_text": ["thing"]},
     "plain.py": {"plain": ["text"], "are_one": ["text", "other"], "first_unlike": ["text", "other"]},
+    "runs.py": {"run": ["text", "inputs"]},
+    "codes.py": {"is_code": ["thing", "k"], "run_code": ["code", "inputs"]},
+    "reading.py": {"read": ["code"]},
+    "sets.py": {
+        "sets": ["text", "block"], "may_follow": ["text", "block", "done"], "live": ["text", "block", "done"],
+        "crowd": ["text", "block", "done", "row"],
+    },
 }
+# Arguments by name alone, with what they are when left out.
+BY_NAME = {"run": {"cells": None, "most": 500}, "run_code": {"cells": None, "most": 500}}
 CLASSES = {
     "errors.py": [
         "LotError", "Empty", "Twin", "NoSet", "NoNumber", "NoCode", "NoRoom", "Standing", "Full", "NoName", "NoHolder",
@@ -124,6 +133,9 @@ class Interface(unittest.TestCase):
             for function, arguments in functions.items():
                 self.assertEqual([part.arg for part in found[function].args.args], arguments)
                 self.assertEqual(found[function].args.defaults, [])
+                names = [part.arg for part in found[function].args.kwonlyargs]
+                values = [part.value for part in found[function].args.kw_defaults]
+                self.assertEqual(dict(zip(names, values)), BY_NAME.get(function, {}))
 
     def test_classes_stand_in_their_files(self):
         for name, classes in CLASSES.items():
