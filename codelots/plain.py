@@ -40,26 +40,32 @@ def many_alike(rows, others):
 def plain_block(block):
     """The plain form of a block."""
     name, takes, rows, finish = block
-    letters = {}
-    for take in takes:
-        letters[take] = letter(len(letters))
-    new_takes = renamed(takes, letters)
-    new_rows = plain_rows(rows, letters)
-    return (name, new_takes, new_rows, renamed_finish(finish, letters))
+    letters = take_letters(takes)
+    order = lettered_order(rows, letters)
+    new_rows = tuple([plain_row(rows[at], letters) for at in order])
+    return (name, renamed(takes, letters), new_rows, renamed_finish(finish, letters))
 
 
-def plain_rows(rows, letters):
-    """The rows as the plain form has them; letters gets the values that they make."""
+def row_order(block):
+    """The numbers of a block's rows, in the order in which its plain form has them."""
+    return lettered_order(block[2], take_letters(block[1]))
+
+
+def take_letters(takes):
+    """What the plain form names the takes, a dict."""
+    return {takes[at]: letter(at) for at in range(len(takes))}
+
+
+def lettered_order(rows, letters):
+    """The order in which the plain form has the rows; letters gets the values that they make."""
     hung = hanging(rows)
     came = []
-    told = []
     while len(came) < len(rows):
         at = min(following(hung, came), key=lambda k: row_key(rows[k], letters))
         came.append(at)
         if made(rows[at]) is not None:
             letters[made(rows[at])] = letter(len(letters))
-        told.append(plain_row(rows[at], letters))
-    return tuple(told)
+    return came
 
 
 def row_key(row, letters):

@@ -8,7 +8,12 @@ from codelots.rows import details, ends, made, worth
 
 def read(code):
     """The plain form of the text that a code comes to (Empty, Twin)."""
-    return plain(tuple([read_block(code[at], at) for at in range(len(code))]))
+    return plain(read_blocks(code))
+
+
+def read_blocks(code):
+    """The text that a code comes to, with its rows as they stand in the code (Empty, Twin)."""
+    return tuple([read_block(code[at], at) for at in range(len(code))])
 
 
 def read_block(block, number):

@@ -58,6 +58,17 @@ def details(row, values):
     return found
 
 
+def with_values(row, value, row_ends):
+    """The row with another value made, if it makes one, and with other ends."""
+    if row[0] == "out":
+        return (row[0],) + row_ends
+    if row[0] == "write":
+        return (row[0], row[1]) + row_ends
+    if row[0] in PAIRED:
+        return (row[0], value) + row_ends
+    return (row[0], value, row[2])
+
+
 def worth(rows, at, values):
     """What just the rows of one worth with rows[at] share; that row must make a value.
 

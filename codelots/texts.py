@@ -30,11 +30,14 @@ def is_text(thing):
     return has_shape(thing) and all([has_names(block) for block in thing])
 
 
+def is_whole(thing):
+    """Whether a thing is a whole number, which a truth isn't."""
+    return isinstance(thing, int) and not isinstance(thing, bool)
+
+
 def is_below(thing, bound):
     """Whether a thing is a whole number from 0 below a bound."""
-    if not isinstance(thing, int) or isinstance(thing, bool):
-        return False
-    return 0 <= thing < bound
+    return is_whole(thing) and 0 <= thing < bound
 
 
 def has_shape(thing):

@@ -235,3 +235,21 @@ def random_code_block(chance, block, k):
             holds[place[row[1]]] = row[1]
         told.append(led_row(chance, row, place))
     return (name, registers, tuple(told), led_finish(finish, place))
+
+
+def nested(kind, deep):
+    """A thing as deep as that: tuples, lists or dicts of one within one another."""
+    thing = 0
+    for _ in range(deep):
+        thing = {"tuple": (thing,), "list": [thing], "dict": {"a": thing}}[kind]
+    return thing
+
+
+# Of every kind that the document names, to ask of anything.
+THINGS = [
+    None, True, False, 0, 1, -1, 6, 7, 12, 13, 10 ** 299, -10 ** 299, "", "a", "b", "main", "Main", "abcdefghi", " ", "~",
+    "0", "a\nb\t", "x" * 19000, (), (0,), (1,), (None,), (True,), ((),), ((), ()), (0, ()), (0, ((),)), ("b",), ("b", ()),
+    ("b", (), (), ()), ("b", (), (), ("stop", ())), (("b", (), (), ("stop", ())), 0), [], [0], [()], [[]], ["b"],
+    {}, {"b": 1}, {0: 1}, {(): [1]}, {(): None}, {(): True}, {None: {}}, {True: 0}, {("a", (0,)): [{}]}, (0,) * 19999,
+    [0] * 19999, nested("tuple", 19), nested("list", 19), nested("dict", 19), ([], {}), ({}, []), ([{}], ({},)),
+]

@@ -33,6 +33,9 @@ INTERFACE = {
         "sets": ["text", "block"], "may_follow": ["text", "block", "done"], "live": ["text", "block", "done"],
         "crowd": ["text", "block", "done", "row"],
     },
+    "counts.py": {"many": ["text", "k"], "polynomial": ["text"], "least": ["text"]},
+    "numbers.py": {"code_of": ["text", "k", "number"], "number_of": ["code", "k"]},
+    "bars.py": {"is_bar": ["text", "k", "thing"], "bar": ["text", "k"]},
 }
 # Arguments by name alone, with what they are when left out.
 BY_NAME = {"run": {"cells": None, "most": 500}, "run_code": {"cells": None, "most": 500}}
@@ -100,9 +103,32 @@ class Names(unittest.TestCase):
                 self.assertNotIn(node.id, imported_names(TREES[path]), path)
 
     def test_only_listed_methods(self):
+        own = own_methods()
         for path, node in nodes(ast.Call):
             if isinstance(node.func, ast.Attribute):
-                self.assertIn(node.func.attr, METHODS, path)
+                self.assertIn(node.func.attr, METHODS | set(own), path)
+
+    def test_no_name_is_a_method_and_an_attribute(self):
+        own = own_methods()
+        self.assertEqual(len(own), len(set(own)))
+        kept = {node.attr for _, node in nodes(ast.Attribute) if isinstance(node.ctx, ast.Store)}
+        self.assertEqual(kept & set(own), set())
+        values = {name for kind in (str, int, list, dict, tuple, set, bytes) for name in dir(kind)}
+        self.assertEqual(values & set(own), set())
+        self.assertEqual(values & kept, {"count"})
+        for path, node in nodes(ast.Attribute):
+            self.assertIn(node.attr, METHODS | set(own) | kept, path)
+
+    def test_what_is_imported_is_used_and_no_two_files_import_each_other(self):
+        for path, tree in TREES.items():
+            used = {node.id for node in ast.walk(tree) if isinstance(node, ast.Name)}
+            self.assertEqual([name for name in imported_names(tree) if name not in used], [], path)
+        left = {path.stem: set(imported_files(tree)) for path, tree in TREES.items()}
+        while left:
+            free = [name for name in left if not left[name] & set(left)]
+            self.assertNotEqual(free, [], left)
+            for name in free:
+                del left[name]
 
     def test_nothing_that_the_language_leaves_out(self):
         for path, node in nodes(*BARRED):
@@ -151,6 +177,18 @@ def own_names(tree):
         if isinstance(node, ast.Assign):
             found.append(node.targets[0].id)
     return found
+
+
+def own_methods():
+    """The names of all methods of the package but those with two underscores."""
+    return [
+        part.name for _, node in nodes(ast.ClassDef) for part in node.body
+        if isinstance(part, ast.FunctionDef) and not part.name.startswith("__")
+    ]
+
+
+def imported_files(tree):
+    return [node.module.split(".")[1] for node in tree.body if isinstance(node, ast.ImportFrom)]
 
 
 def imported_names(tree):

@@ -3,10 +3,10 @@ import itertools
 import random
 import unittest
 
-from codelots.errors import Empty, LotError, NoSet, Twin
+from codelots.errors import LotError, NoSet
 from codelots.plain import plain
-from codelots.reading import read
 from codelots.sets import crowd, live, may_follow, sets
+from tests.oracle import TINY, candidates, reads_to
 from tests.samples import FULL, disguised, hung, living_in, number_of_values, one_block, random_text
 
 CHAIN = one_block([("add", "p", "x", "y"), ("less", "q", "p", "x"), ("times", "r", "q", "q")], finish=("stop", ("r",)))
@@ -308,19 +308,9 @@ class Together(unittest.TestCase):
 class Places(unittest.TestCase):
     """A row may be put in just k less the crowd registers: all codes of small texts are tried."""
 
-    texts = [
-        one_block([("add", "p", "x", "y"), ("less", "q", "p", "x")], finish=("stop", ("q",))),
-        one_block([("add", "p", "x", "y"), ("min", "q", "x", "x")], finish=("stop", ("q", "y"))),
-        one_block([("num", "n", 1), ("times", "q", "x", "n")], ("x",), ("stop", ("x",))),
-        one_block([("num", "n", 1), ("num", "m", 2)], ("x",), ("stop", ("n",))),
-        one_block([("read", "r", "c"), ("write", "c", "x"), ("read", "s", "c")], ("x",), ("stop", ("r",))),
-        one_block([("out", "x"), ("num", "n", 1), ("out", "n")], ("x",)),
-        one_block([("num", "n", 1), ("out", "n"), ("num", "m", 2), ("out", "m")], ()),
-    ]
-
     def test_the_count_of_codes(self):
         above = 0
-        for text in self.texts:
+        for text in TINY:
             for k in range(4):
                 expected = count_from(text, (), k)
                 for less in range(len(text[0][1])):
@@ -346,32 +336,6 @@ def count_from(text, done, k):
             ways *= 2
         total += ways * count_from(text, tuple(sorted(done + (at,))), k)
     return total
-
-
-def candidates(text, k):
-    """All codes for k registers with the rows of a text of one block in any order, whatever registers they have."""
-    name, takes, rows, finish = plain(text)[0]
-    for places in itertools.permutations(range(k), len(takes)):
-        for order in itertools.permutations(rows):
-            for told in itertools.product(*[coded(row, k) for row in order]):
-                for values in itertools.product(range(k), repeat=len(finish[1])):
-                    yield ((name, places, told, ("stop", values)),)
-
-
-def coded(row, k):
-    """A row with all registers in the place of its values."""
-    if row[0] in ("num", "read"):
-        return [(row[0], one, row[2]) for one in range(k)]
-    if row[0] == "write":
-        return [(row[0], row[1], one) for one in range(k)]
-    return [(row[0],) + told for told in itertools.product(range(k), repeat=len(row) - 1)]
-
-
-def reads_to(thing, text):
-    try:
-        return read(thing) == plain(text)
-    except (Empty, Twin):
-        return False
 
 
 if __name__ == "__main__":
