@@ -36,6 +36,22 @@ INTERFACE = {
     "counts.py": {"many": ["text", "k"], "polynomial": ["text"], "least": ["text"]},
     "numbers.py": {"code_of": ["text", "k", "number"], "number_of": ["code", "k"]},
     "bars.py": {"is_bar": ["text", "k", "thing"], "bar": ["text", "k"]},
+    "prices.py": {
+        "cheapest": ["text", "k", "prices"], "price_of": ["code", "prices"], "worths": ["text", "block", "k", "prices"],
+        "shows_least": ["text", "block", "k", "prices", "told", "price"],
+    },
+    "words.py": {"room": ["text", "k"], "laid": ["text", "k", "word"], "word_in": ["code", "k"]},
+    "papers.py": {
+        "table": ["text", "block"], "is_table": ["text", "block", "thing"], "pairing": ["text", "other"],
+        "is_pairing": ["text", "other", "thing"],
+    },
+}
+# The methods that stand in the class itself.
+OFFICE = {
+    "__init__": ["k"], "put": ["name", "text"], "machine": ["k"], "strike": ["name"], "issue": ["name", "holder", "number"],
+    "edit": ["name", "block"], "refit": ["name", "blocks"], "undo": [], "names": [], "holders": ["name"], "registers": [],
+    "text": ["name"], "number": ["name", "holder"], "found": ["code"], "lots": ["name", "code"], "sure": ["name", "code"],
+    "__len__": [],
 }
 # Arguments by name alone, with what they are when left out.
 BY_NAME = {"run": {"cells": None, "most": 500}, "run_code": {"cells": None, "most": 500}}
@@ -44,6 +60,7 @@ CLASSES = {
         "LotError", "Empty", "Twin", "NoSet", "NoNumber", "NoCode", "NoRoom", "Standing", "Full", "NoName", "NoHolder",
         "NoBlock", "NoText",
     ],
+    "office.py": ["Office"],
 }
 
 BARRED = (ast.AsyncFor, ast.AsyncFunctionDef, ast.AsyncWith, ast.Await, ast.Import, ast.Div, ast.GeneratorExp)
@@ -162,6 +179,15 @@ class Interface(unittest.TestCase):
                 names = [part.arg for part in found[function].args.kwonlyargs]
                 values = [part.value for part in found[function].args.kw_defaults]
                 self.assertEqual(dict(zip(names, values)), BY_NAME.get(function, {}))
+
+    def test_the_offices_methods_stand_in_the_class(self):
+        office = [node for node in TREES[PACKAGE / "office.py"].body if isinstance(node, ast.ClassDef)][0]
+        self.assertEqual(office.bases, [])
+        found = {node.name: node.args for node in office.body if isinstance(node, ast.FunctionDef)}
+        for name, arguments in OFFICE.items():
+            self.assertEqual([part.arg for part in found[name].args], ["self"] + arguments)
+            self.assertEqual((found[name].defaults, found[name].kwonlyargs), ([], []))
+        self.assertEqual([name for name in found if name not in OFFICE and not name.startswith("_")], [])
 
     def test_classes_stand_in_their_files(self):
         for name, classes in CLASSES.items():
